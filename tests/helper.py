@@ -1,0 +1,286 @@
+"""What the tests share: fleets, values of every kind, values with one part otherwise, and plain
+ways to work out what the document defines, by which the program is measured."""
+
+import copy
+import itertools
+import random
+
+from sparehop.errors import FleetError, NoEdit, NoText
+
+SMALL = (("a", "b"), (0, 1), ("a", "b", "a"))
+ALONE = (("a",), (1,), ())
+STILL = (("ab", "b", "web"), (3, 0, 2), ())
+SOME = (("a", "b", "c"), (2, 0, 3), ("c", "a", "c", "c"))
+LARGE = (tuple("abcdefgh"), (3, 1, 4, 0, 5, 8, 2, 6), tuple("abcdefgh"[k * k * 7 % 11 % 8] for k in range(60)))
+FLEETS = (SMALL, ALONE, STILL, SOME, LARGE)
+
+
+# --- values ---------------------------------------------------------------------------------------
+
+def nested(kind, depth):
+    """A value of one kind within itself."""
+    thing = kind()
+    for _ in range(depth - 1):
+        thing = kind([thing])
+    return thing
+
+
+def every_kind():
+    """Values of every kind that the document calls any values."""
+    deep = {}
+    for _ in range(19):
+        deep = {"a": deep}
+    return [
+        None, True, False, 0, 1, -1, 2, 7, 10 ** 40 - 1, -(10 ** 40 - 1),
+        "", "a", "b", "A", " ", "\n", "a b", "#", "0", "~" * 3000, "a" * 3000, "\n" * 3000, "1" * 3000,
+        [], (), {}, [()], ((),), ([],), ((), (), ()), [(), (), ()], ((), (), []), (((), ()),),
+        ("a",), ["a"], ("a", 0), ["a", 0], ("a", False), ("a", 1), ("a", True), ("a", "0"), (0, "a"), ("a", -1),
+        ("a", 10 ** 40 - 1), ("a", None), (None, 0), ((), 0), ("a", 0, 0), (("a",), "b"), (("a",), True),
+        (0,), (True,), (False,), (0, 1), (1, 0), (0, 0), (None,), ("",), (("a", 0),), (("a", 1), ("a", 1)),
+        {"a": 0}, {("a", 0): 0}, {("a", False): 0}, {0: ("a", 0)}, {True: True}, {(): {}},
+        nested(list, 20), nested(tuple, 20), deep,
+        [0] * 3000, (0,) * 3000, ("a",) * 3000, tuple(range(3000)), {k: k for k in range(3000)},
+        FleetError(), NoEdit(0), NoText(0, 1), [NoEdit(0)], (NoEdit(0),), {NoEdit(0): NoEdit(0)}, (NoEdit(0), 0),
+    ]
+
+
+def replaced(thing):
+    """Other values that could be taken for a thing, or stand close to it."""
+    if isinstance(thing, tuple):
+        return [list(thing), None, thing + ((),), (thing,), dict.fromkeys(range(len(thing)))]
+    if isinstance(thing, list):
+        return [tuple(thing), None]
+    if isinstance(thing, dict):
+        return [list(thing.items()), tuple(thing), None]
+    if isinstance(thing, bool):
+        return [int(thing), not thing]
+    if isinstance(thing, int):
+        truths = [bool(thing)] if thing in (0, 1) else []
+        return [*truths, thing + 1, thing - 1, -1, str(thing), None, (thing,), 10 ** 40 - 1]
+    if isinstance(thing, str):
+        return [thing.upper(), thing + "a", thing * 13, "", "b", "zz", 0, None, (thing,), list(thing)]
+    return [None]
+
+
+def otherwise(thing):
+    """All values with one part otherwise: exchanged, left out, doubled, added or swapped, at each depth."""
+    yield from replaced(thing)
+    if isinstance(thing, (tuple, list)):
+        kind, items = type(thing), list(thing)
+        for at, item in enumerate(items):
+            for part in otherwise(item):
+                yield kind([*items[:at], part, *items[at + 1:]])
+            yield kind(items[:at] + items[at + 1:])
+            yield kind(items[:at + 1] + items[at:])
+            if at:
+                yield kind([*items[:at - 1], item, items[at - 1], *items[at + 1:]])
+        for part in (0, True, "a", (), None):
+            yield kind([*items, part])
+    if isinstance(thing, dict):
+        for key in thing:
+            rest = {other: thing[other] for other in thing if other != key}
+            yield rest
+            for part in otherwise(thing[key]):
+                yield {**thing, key: part}
+            for part in otherwise(key):
+                if is_hashable(part):
+                    yield {**rest, part: thing[key]}
+                    yield {part: thing[key], **rest}
+        for key in (None, 0, ("zz", 0), ()):
+            yield {**thing, key: 0}
+
+
+def is_hashable(thing):
+    try:
+        hash(thing)
+    except TypeError:
+        return False
+    return True
+
+
+def twice_otherwise(thing, many, seed):
+    """Some values with two parts otherwise."""
+    once = list(otherwise(thing))
+    chosen = random.Random(seed)
+    for _ in range(many):
+        yield chosen.choice(list(otherwise(chosen.choice(once))))
+
+
+def drawn_fleet(chosen, services, restarts):
+    """A fleet with at most so many services and restarts."""
+    count = chosen.randint(1, services)
+    names = tuple(sorted(chosen.sample(["a", "b", "c", "web", "db", "mail", "abcdefghijkl", "z"], count)))
+    places = tuple(chosen.sample(range(count + 1), count))
+    return names, places, tuple(chosen.choice(names) for _ in range(chosen.randint(0, restarts)))
+
+
+def drawn_fleets(many, services, restarts, seed):
+    chosen = random.Random(seed)
+    return [drawn_fleet(chosen, services, restarts) for _ in range(many)]
+
+
+def drawn_part(chosen, items):
+    """Some of the items, in their order."""
+    share = chosen.random()
+    return tuple(item for item in items if chosen.random() < share)
+
+
+# --- calls ----------------------------------------------------------------------------------------
+
+def exact(thing):
+    """A value with the kinds of its parts told at each depth; equal for dicts in any order."""
+    if isinstance(thing, (list, tuple)):
+        return type(thing), [exact(item) for item in thing]
+    if isinstance(thing, dict):
+        return dict, sorted([(repr(key), exact(key), exact(thing[key])) for key in thing], key=lambda row: row[0])
+    if thing is None or isinstance(thing, (bool, int, str)):
+        return type(thing), thing
+    return type(thing), exact(vars(thing))
+
+
+def same(one, other):
+    """Whether two values have equal parts of the same kinds at each depth; dicts in any order."""
+    return type(one) is type(other) and exact(one) == exact(other)
+
+
+def changeable(thing):
+    """The lists and dicts in a value."""
+    if isinstance(thing, (list, dict)):
+        yield thing
+    if isinstance(thing, (list, tuple)):
+        for item in thing:
+            yield from changeable(item)
+    if isinstance(thing, dict):
+        for key in thing:
+            yield from changeable(key)
+            yield from changeable(thing[key])
+
+
+def outcome(function, arguments):
+    """What a call returns or raises."""
+    try:
+        return "returned", function(*arguments)
+    except FleetError as error:
+        return "raised", error
+
+
+def order_of_keys(thing):
+    """The keys of all dicts in a value, in their orders."""
+    return [[repr(key) for key in part] for part in changeable(thing) if isinstance(part, dict)]
+
+
+def observed(test, function, arguments):
+    """The outcome of a call; it leaves its arguments as they are, and comes a second time."""
+    before = copy.deepcopy(arguments)
+    kind, told = outcome(function, arguments)
+    kept = copy.deepcopy(told) if kind == "returned" else vars(told).copy()
+    test.assertTrue(same(arguments, before), (function, before))
+    test.assertEqual(order_of_keys(arguments), order_of_keys(before))
+    if kind == "returned":
+        owned = [id(part) for part in changeable(told)]
+        test.assertEqual(len(owned), len(set(owned)))
+        test.assertFalse(set(owned) & {id(part) for part in changeable(arguments)})
+    second_kind, again = outcome(function, copy.deepcopy(arguments))
+    test.assertEqual((function, kind, type(told)), (function, second_kind, type(again)))
+    if kind == "returned":
+        test.assertTrue(same(told, kept) and same(told, again), (function, before, told, again))
+        test.assertEqual(order_of_keys(told), order_of_keys(again))
+    else:
+        test.assertEqual(repr(kept), repr(vars(again)))
+    return kind, told
+
+
+def called(test, function, *arguments):
+    """What a call returns."""
+    kind, told = observed(test, function, arguments)
+    test.assertEqual(kind, "returned", (function, arguments, told))
+    return told
+
+
+def check(test, expected, function, *arguments):
+    """A call returns exactly what is expected."""
+    told = called(test, function, *arguments)
+    test.assertTrue(same(told, expected), (function.__name__, arguments, told, expected))
+
+
+def check_raised(test, expected, function, *arguments):
+    """A call raises exactly an error of this class, with these fields."""
+    kind, told = observed(test, function, arguments)
+    test.assertEqual(kind, "raised", (function, arguments, told))
+    test.assertIs(type(told), type(expected), (function, arguments))
+    test.assertTrue(same(told, expected), (function, arguments, vars(told), vars(expected)))
+    return told
+
+
+# --- what the document defines, worked out the plain way --------------------------------------------
+
+def plain_leases(fleet):
+    services, _, restarts = fleet
+    return sorted([(s, 0) for s in services] + [(s, j + 1) for j, s in enumerate(restarts)])
+
+
+def plain_end(fleet, lease):
+    service, begin = lease
+    for number, restarting in enumerate(fleet[2]):
+        if number >= begin and restarting == service:
+            return number
+    return len(fleet[2])
+
+
+def plain_stretches(fleet, lease):
+    return list(range(lease[1], plain_end(fleet, lease) + 1))
+
+
+def plain_plans(fleet):
+    numbers = range(len(fleet[2]))
+    return [plan for many in range(len(fleet[2]) + 1) for plan in itertools.combinations(numbers, many)]
+
+
+def plain_courses(fleet, plan):
+    """For each stretch the dict from services to machines, and the spare machine."""
+    services, places, restarts = fleet
+    machines = dict(zip(services, places))
+    rows = []
+    for number in range(len(restarts) + 1):
+        (spare,) = set(range(len(services) + 1)) - set(machines.values())
+        rows.append((dict(machines), spare))
+        if number in plan:
+            machines[restarts[number]] = spare
+    return rows
+
+
+def plain_table(fleet, plan):
+    rows = plain_courses(fleet, plan)
+    return {lease: rows[lease[1]][0][lease[0]] for lease in plain_leases(fleet)}
+
+
+def plain_reduced(word):
+    """Two equal neighbours are removed as long as there are any."""
+    word = list(word)
+    at = 0
+    while at + 1 < len(word):
+        if word[at] == word[at + 1]:
+            del word[at:at + 2]
+            at = 0
+        else:
+            at += 1
+    return tuple(word)
+
+
+def reduced_words(letters, length):
+    """All reduced words of these letters up to a length."""
+    words = [w for many in range(length + 1) for w in itertools.product(letters, repeat=many)]
+    return [w for w in words if all(x != y for x, y in zip(w, w[1:]))]
+
+
+def plain_edited(fleet, plan, pins, lease):
+    """The plan to which an edit leads, None if it cannot be done; by the machines alone."""
+    if not any(same(lease, one) for one in plain_leases(fleet)) or lease[1] == 0 or lease in pins:
+        return None
+    rows = plain_courses(fleet, plan)
+    spares = {rows[stretch][1] for stretch in plain_stretches(fleet, lease)}
+    if len(spares) > 1:
+        return None
+    table = {**plain_table(fleet, plan), lease: min(spares)}
+    (other,) = [other for other in plain_plans(fleet) if plain_table(fleet, other) == table]
+    return other

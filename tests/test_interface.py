@@ -1,0 +1,52 @@
+"""[4] and the section on the interface: names, arguments, and the files under which they stand."""
+
+import importlib
+import inspect
+import pathlib
+import unittest
+
+import sparehop
+
+FOLDER = pathlib.Path(sparehop.__file__).parent
+
+# The modules in the order of the interface: a module may use those above it.
+INTERFACE = {
+    "errors": "",
+    "forms": "is_integer(thing) is_name(thing) is_fleet(thing) is_lease(fleet,thing) is_plan(fleet,thing) "
+             "are_pins(fleet,thing) are_edits(fleet,thing) is_word(fleet,thing) is_reduced(fleet,thing) "
+             "is_edge(fleet,thing) are_prices(fleet,thing)",
+    "fleets": "size(fleet) end_of(fleet,lease) restarts_of(fleet,service) leases_of(fleet) leases_in(fleet,stretch) "
+              "stretches_of(fleet,lease) share(fleet,one,other) lease_in(fleet,service,stretch) fleet_fault(thing) "
+              "checked_fleet(thing)",
+    "fleettexts": "fleet_text(fleet) plan_text(fleet,plan) pins_text(fleet,pins) picture(fleet,plan) read_fleet(text) "
+                  "read_plan(fleet,text) read_pins(fleet,text)",
+}
+
+
+class Interface(unittest.TestCase):
+
+    def test_names_and_arguments(self):
+        for file, told in INTERFACE.items():
+            module = importlib.import_module(f"sparehop.{file}")
+            for entry in told.split():
+                name, arguments = entry[:-1].split("(")
+                function = getattr(module, name)
+                self.assertEqual(function.__module__, module.__name__)
+                self.assertEqual(list(inspect.signature(function).parameters), arguments.split(","))
+
+    def test_the_files_of_the_package(self):
+        files = {path.name for path in FOLDER.iterdir() if path.name != "__pycache__"}
+        self.assertEqual(files, {"__init__.py", *(f"{name}.py" for name in INTERFACE)})
+        self.assertEqual((FOLDER / "__init__.py").read_bytes(), b"")
+
+    def test_a_module_uses_only_those_above_it(self):
+        above = []
+        for name in INTERFACE:
+            for line in (FOLDER / f"{name}.py").read_text().splitlines():
+                if line.startswith(("import", "from")):
+                    self.assertIn(line.split()[1], [f"sparehop.{other}" for other in above])
+            above.append(name)
+
+
+if __name__ == "__main__":
+    unittest.main()
