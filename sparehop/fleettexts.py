@@ -22,11 +22,16 @@ def pins_text(fleet, pins):
     return "\n".join([f"pin {service} {begin}" for service, begin in pins])
 
 
-def words_of_lines(text):
-    """Return the list of the words of each line of a text, without remarks."""
-    # Only the blank parts words, and only the line feed parts lines.
-    lines = [line.partition("#")[0] for line in text.split("\n")]
-    return [[word for word in line.split(" ") if word] for line in lines]
+def words_of(line):
+    """Return the list of the words of a line, without its remark."""
+    # Only the blank parts words, no other white space does.
+    return [word for word in line.partition("#")[0].split(" ") if word]
+
+
+def lines_with_words(text):
+    """Return the list of the lines of a text that have words: tuples of the line's index and its words."""
+    lines = [(line, words_of(told)) for line, told in enumerate(text.split("\n"))]
+    return [(line, words) for line, words in lines if words]
 
 
 def three_words(words):
@@ -82,14 +87,12 @@ def read_fleet(text):
     """Return the FLEET that a text tells."""
     if not isinstance(text, str):
         raise Wrong(0)
-    lines = words_of_lines(text)
-    told = [words for words in lines if words[:1] == ["service"]]
+    lines = lines_with_words(text)
+    told = [words for _, words in lines if words[0] == "service"]
     names = [three_words(words)[1] for words in told]
     places = {}
     restarts = []
-    for line, words in enumerate(lines):
-        if not words:
-            continue
+    for line, words in lines:
         column = fleet_column(words, names, len(told), places)
         if column is not None:
             raise NoText(line, column)
@@ -98,7 +101,7 @@ def read_fleet(text):
         else:
             restarts.extend(words[1:])
     if not told:
-        raise NoText(len(lines), 0)
+        raise NoText(text.count("\n") + 1, 0)
     services = sorted(places)
     return (tuple(services), tuple([places[name] for name in services]), tuple(restarts))
 
@@ -123,9 +126,7 @@ def read_plan(fleet, text):
     """Return the PLAN that a text tells."""
     refuse_wrong(fleet, text)
     hops = []
-    for line, words in enumerate(words_of_lines(text)):
-        if not words:
-            continue
+    for line, words in lines_with_words(text):
         column = hop_column(fleet, words, hops)
         if column is not None:
             raise NoText(line, column)
@@ -153,9 +154,7 @@ def read_pins(fleet, text):
     """Return the PINS that a text tells."""
     refuse_wrong(fleet, text)
     pins = []
-    for line, words in enumerate(words_of_lines(text)):
-        if not words:
-            continue
+    for line, words in lines_with_words(text):
         column = pin_column(fleet, words, pins)
         if column is not None:
             raise NoText(line, column)
@@ -184,6 +183,6 @@ def picture(fleet, plan):
     rows = [machines_after(fleet, hopping_before(fleet, plan, stretch)) for stretch in range(size(fleet) + 1)]
     lines = []
     for machine in range(len(fleet[0]) + 1):
-        words = [str(machine), *[runs_on(fleet, machines, machine) for machines in rows]]
-        lines.append(" ".join(words))
+        words = [runs_on(fleet, machines, machine) for machines in rows]
+        lines.append(" ".join([str(machine), *words]))
     return "\n".join(lines)

@@ -125,6 +125,16 @@ def drawn_part(chosen, items):
     return tuple(item for item in items if chosen.random() < share)
 
 
+def no_leases():
+    """Couples of a fleet and a value that is no lease of it."""
+    for fleet in (SMALL, ALONE, SOME):
+        leases = plain_leases(fleet)
+        things = [part for lease in leases for part in otherwise(lease)]
+        for thing in (*things, *every_kind()):
+            if not any(same(thing, lease) for lease in leases):
+                yield fleet, thing
+
+
 # --- calls ----------------------------------------------------------------------------------------
 
 def exact(thing):

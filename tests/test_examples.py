@@ -22,6 +22,15 @@ class Examples(unittest.TestCase):
     def test_fleets(self):
         self.check_examples("fleets")
 
+    def test_plans(self):
+        self.check_examples("plans")
+
+    def test_words(self):
+        self.check_examples("words")
+
+    def test_edits(self):
+        self.check_examples("edits")
+
 
 if __name__ == "__main__":
     unittest.main()

@@ -98,14 +98,10 @@ class Fleets(unittest.TestCase):
                     check(self, tuple(sorted(both)), share, fleet, one, other)
 
     def test_what_is_no_lease(self):
-        for fleet in (helper.SMALL, helper.ALONE, helper.SOME):
-            leases = helper.plain_leases(fleet)
-            things = [part for lease in leases for part in helper.otherwise(lease)]
-            for thing in (*things, *helper.every_kind()):
-                if not any(helper.same(thing, lease) for lease in leases):
-                    for function in (end_of, stretches_of):
-                        error = check_raised(self, NoLease(thing), function, fleet, thing)
-                        self.assertIs(error.lease, thing)
+        for fleet, thing in helper.no_leases():
+            for function in (end_of, stretches_of):
+                error = check_raised(self, NoLease(thing), function, fleet, thing)
+                self.assertIs(error.lease, thing)
 
 
 class Faults(unittest.TestCase):

@@ -20,6 +20,17 @@ INTERFACE = {
               "checked_fleet(thing)",
     "fleettexts": "fleet_text(fleet) plan_text(fleet,plan) pins_text(fleet,pins) picture(fleet,plan) read_fleet(text) "
                   "read_plan(fleet,text) read_pins(fleet,text)",
+    "plans": "machines_in(fleet,plan,stretch) spares_of(fleet,plan) machine_in(fleet,plan,service,stretch) "
+             "spare_in(fleet,plan,stretch) machine_of(fleet,plan,lease)",
+    "tables": "table_of(fleet,plan) table_fault(fleet,thing) is_table(fleet,thing) plan_of(fleet,thing)",
+    "words": "reduced(word) joined(first,second) inverse(word) near_end(one,edge) far_end(one,edge) "
+             "median_word(one,other,third) nearest(one,sides) way(one,other) tree_distance(one,other) "
+             "is_on_way(one,other,edge)",
+    "vertices": "vertex_in(fleet,plan,stretch) vertices_of(fleet,plan) machines_at(fleet,word) "
+                "plan_by(fleet,vertices) spare_at(fleet,word)",
+    "edits": "can_be_edited(fleet,plan,pins,lease) is_script(fleet,plan,pins,thing) edits_of(fleet,plan,pins) "
+             "traced(fleet,plan,pins,script) takes_back(script) edited(fleet,plan,pins,lease) "
+             "run(fleet,plan,pins,script)",
 }
 
 
