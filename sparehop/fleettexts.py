@@ -134,20 +134,34 @@ def read_plan(fleet, text):
     return tuple(sorted(hops))
 
 
+def lease_column(fleet, first, words):
+    """Return the column at fault in a line of a first word and a LEASE behind it, None if there is none."""
+    start, service, begin = three_words(words)
+    if start != first:
+        return 0
+    if not is_service(fleet, service):
+        return 1
+    if not is_lease(fleet, (service, number_told(begin, size(fleet)))):
+        return 2
+    return 3 if len(words) > 3 else None
+
+
+def lease_told(fleet, words):
+    """Return the LEASE that a line tells behind its first word."""
+    return (words[1], number_told(words[2], size(fleet)))
+
+
 def pin_column(fleet, words, pins):
     """Return the column at fault in a line of the text of PINS, None if there is none.
 
     pins has those of the lines before.
     """
-    first, second, third = three_words(words)
-    if first != "pin":
-        return 0
-    if not is_service(fleet, second):
-        return 1
-    lease = (second, number_told(third, size(fleet)))
-    if third == "0" or not is_lease(fleet, lease) or lease in pins:
-        return 2
-    return 3 if len(words) > 3 else None
+    column = lease_column(fleet, "pin", words)
+    if column is None or column == 3:
+        lease = lease_told(fleet, words)
+        if lease[1] == 0 or lease in pins:
+            return 2
+    return column
 
 
 def read_pins(fleet, text):
@@ -158,7 +172,7 @@ def read_pins(fleet, text):
         column = pin_column(fleet, words, pins)
         if column is not None:
             raise NoText(line, column)
-        pins.append((words[1], number_told(words[2], size(fleet))))
+        pins.append(lease_told(fleet, words))
     return tuple(sorted(pins))
 
 

@@ -2,8 +2,11 @@
 ways to work out what the document defines, by which the program is measured."""
 
 import copy
+import functools
 import itertools
 import random
+import re
+import time
 
 from sparehop.errors import FleetError, NoEdit, NoText
 
@@ -133,6 +136,37 @@ def no_leases():
         for thing in (*things, *every_kind()):
             if not any(same(thing, lease) for lease in leases):
                 yield fleet, thing
+
+
+def drawn_texts(chosen, right, others):
+    """Texts that have some words and lines of a right text exchanged."""
+    for _ in range(400):
+        lines = [line.split(" ") for line in right.split("\n")]
+        for _ in range(chosen.randint(0, 3)):
+            words = chosen.choice(lines)
+            at = chosen.randint(0, len(words))
+            words[at:at + chosen.randint(0, 1)] = chosen.sample(others, chosen.randint(0, 1))
+            if chosen.random() < 0.2:
+                lines.insert(chosen.randint(0, len(lines)), list(chosen.choice(lines)))
+        yield "\n".join(" ".join(words) for words in lines)
+
+
+def written_otherwise(chosen, text, ordered):
+    """A text that tells the same: with blanks, remarks, empty lines, and lines in another order."""
+    lines = text.split("\n")
+    if not ordered:
+        chosen.shuffle(lines)
+    written = []
+    for line in lines:
+        words = re.sub(" ", lambda _: " " * chosen.randint(1, 3), line)
+        remark = chosen.choice(["", "#", " # hop 0", "# service", "##"])
+        written += [""] * chosen.randint(0, 1) + chosen.choice([[], ["#pin a 1"], ["   "]])
+        written.append(" " * chosen.randint(0, 2) + words + " " * chosen.randint(0, 2) + remark)
+    return "\n".join(written) + chosen.choice(["", "\n", "\n\n # end"])
+
+
+def plain_lines(text):
+    return [re.findall("[^ ]+", re.sub("#.*", "", line)) for line in text.split("\n")]
 
 
 # --- calls ----------------------------------------------------------------------------------------
@@ -287,10 +321,169 @@ def plain_edited(fleet, plan, pins, lease):
     """The plan to which an edit leads, None if it cannot be done; by the machines alone."""
     if not any(same(lease, one) for one in plain_leases(fleet)) or lease[1] == 0 or lease in pins:
         return None
-    rows = plain_courses(fleet, plan)
-    spares = {rows[stretch][1] for stretch in plain_stretches(fleet, lease)}
-    if len(spares) > 1:
-        return None
-    table = {**plain_table(fleet, plan), lease: min(spares)}
-    (other,) = [other for other in plain_plans(fleet) if plain_table(fleet, other) == table]
-    return other
+    return plain_graph(fleet)[plan].get(lease)
+
+
+@functools.lru_cache(maxsize=None)
+def plain_graph(fleet):
+    """For each plan the dict from its edits, with no pins, to the plans to which they lead; by the machines alone."""
+    by_table = {tuple(plain_table(fleet, plan).items()): plan for plan in plain_plans(fleet)}
+    graph = {}
+    for table, plan in by_table.items():
+        rows = plain_courses(fleet, plan)
+        graph[plan] = {}
+        for lease, _ in table:
+            spares = {rows[stretch][1] for stretch in plain_stretches(fleet, lease)}
+            if lease[1] > 0 and len(spares) == 1:
+                graph[plan][lease] = by_table[tuple({**dict(table), lease: min(spares)}.items())]
+    return graph
+
+
+def plain_needed(fleet, pins, plan):
+    """The dict from the plans of a class to how many edits are needed to them, by going along edits."""
+    needed, waiting = {plan: 0}, [plan]
+    for before in waiting:
+        for lease, behind in plain_graph(fleet)[before].items():
+            if lease not in pins and behind not in needed:
+                needed[behind] = needed[before] + 1
+                waiting.append(behind)
+    return needed
+
+
+def plain_behind(fleet, plan, pins, script):
+    """The plan behind all edits of a tuple of leases, None if one of them cannot be done."""
+    for lease in script:
+        plan = None if lease in pins else plain_graph(fleet)[plan].get(lease)
+        if plan is None:
+            return None
+    return plan
+
+
+def plain_scripts(fleet, pins, one, other):
+    """All shortest scripts from one plan to another, by going along edits; in the order of Python."""
+    needed = plain_needed(fleet, pins, other)
+    if one == other:
+        return [()]
+    steps = [(lease, plan) for lease, plan in plain_graph(fleet)[one].items() if lease not in pins]
+    nearer = [(lease, plan) for lease, plan in steps if needed.get(plan, -1) == needed.get(one, 0) - 1]
+    return sorted((lease, *rest) for lease, plan in nearer for rest in plain_scripts(fleet, pins, plan, other))
+
+
+def plain_vertices(fleet, plan):
+    """The vertices of a plan by their definition."""
+    hops = [[fleet[2][j] for j in plan if j < k] for k in range(len(fleet[2]) + 1)]
+    return tuple(plain_reduced(services) for services in hops)
+
+
+def plain_way(one, other):
+    """The way between two reduced words, walked step by step."""
+    edges = []
+    for letter in plain_reduced((*one[::-1], *other)):
+        behind = plain_reduced((*one, letter))
+        edges.append((min(one, behind, key=len), letter))
+        one = behind
+    assert one == other
+    return edges
+
+
+def plain_ways(fleet, one, other):
+    """For each stretch the way from the vertex of one plan to that of the other."""
+    return [plain_way(x, y) for x, y in zip(plain_vertices(fleet, one), plain_vertices(fleet, other))]
+
+
+def plain_aparts(fleet, one, other):
+    """The dict from all leases to how far two plans are apart; the same in all stretches of a lease."""
+    ways = plain_ways(fleet, one, other)
+    told = {}
+    for lease in plain_leases(fleet):
+        counts = {sum(edge[1] == lease[0] for edge in ways[k]) for k in plain_stretches(fleet, lease)}
+        (told[lease],) = counts
+    return told
+
+
+def plain_differences(fleet, one, other):
+    """All differences from one plan to another, ascending."""
+    ways = plain_ways(fleet, one, other)
+    lot = set()
+    for lease in plain_leases(fleet):
+        rows = [{edge for edge in ways[k] if edge[1] == lease[0]} for k in plain_stretches(fleet, lease)]
+        assert all(row == rows[0] for row in rows)
+        lot |= {(lease, edge) for edge in rows[0]}
+    return tuple(sorted(lot))
+
+
+def plain_direct(fleet, one, other):
+    """The set of the couples of differences of which the first one directly precedes the second one."""
+    stretches = {lease: plain_stretches(fleet, lease) for lease in plain_leases(fleet)}
+    lot = plain_differences(fleet, one, other)
+    couples = set()
+    for k, told in enumerate(plain_ways(fleet, one, other)):
+        here = {edge: (lease, edge) for lease, edge in lot if k in stretches[lease]}
+        couples |= set(itertools.combinations([here[edge] for edge in told], 2))
+    return couples
+
+
+def plain_ahead(fleet, one, other):
+    """The dict from each difference to the set of those that directly precede it."""
+    ahead = {item: set() for item in plain_differences(fleet, one, other)}
+    for first, second in plain_direct(fleet, one, other):
+        ahead[second].add(first)
+    return ahead
+
+
+def plain_preceding(fleet, one, other):
+    """The dict from each difference to the set of those that precede it, by going back step by step."""
+    ahead = plain_ahead(fleet, one, other)
+    told = {}
+    for last in ahead:
+        found, waiting = set(), [last]
+        for second in waiting:
+            waiting += ahead[second] - found
+            found |= ahead[second]
+        told[last] = found
+    return told
+
+
+def plain_closed_sets(fleet, one, other):
+    """All closed sets of differences, as ascending tuples, by going through all sets."""
+    before = plain_preceding(fleet, one, other)
+    parts = [part for many in range(len(before) + 1) for part in itertools.combinations(sorted(before), many)]
+    return [part for part in parts if all(before[item] <= set(part) for item in part)]
+
+
+def later_leases(fleet):
+    """All leases that may be pinned."""
+    return tuple(lease for lease in plain_leases(fleet) if lease[1] > 0)
+
+
+def pairs_of_plans(fleet, many, seed):
+    """So many couples of plans of a fleet, equal ones, none and all hops among them; all, if there are so few."""
+    pairs = list(itertools.product(plain_plans(fleet), repeat=2))
+    every = tuple(range(len(fleet[2])))
+    marked = [((), ()), ((), every), (every, ()), (every, every)]
+    return pairs if len(pairs) <= many else marked + random.Random(seed).sample(pairs, many - 4)
+
+
+# Plans that are many hundred differences apart: fleets with two, three and eight services and sixty restarts.
+FAR = tuple(
+    ((names, tuple(range(len(names))), tuple(names[k % len(names)] for k in range(60))), tuple(range(60)), other)
+    for names in (tuple("ab"), tuple("abc"), tuple("abcdefgh"))
+    for other in (tuple(range(1, 60)), (), tuple(k for k in range(60) if k % 3))
+)
+
+
+def quick(test, function, *arguments):
+    """What a call returns, or the error that it raises; it comes back within seconds."""
+    begun = time.perf_counter()
+    _, told = outcome(function, arguments)
+    test.assertLess(time.perf_counter() - begun, 10, function.__name__)
+    return told
+
+
+def check_changeable(test, function, *arguments):
+    """The lists and dicts that a call returns may be changed: it returns the same again."""
+    kept = called(test, function, *arguments)
+    again = function(*arguments)
+    for part in list(changeable(again)):
+        part.clear()
+    test.assertTrue(same(function(*arguments), kept), (function, arguments))

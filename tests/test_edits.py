@@ -13,15 +13,11 @@ SMALL_FLEETS = (helper.SMALL, helper.ALONE, helper.STILL, helper.SOME, *helper.d
 LARGE_FLEETS = (helper.LARGE, *helper.drawn_fleets(5, 8, 60, 24))
 
 
-def later_leases(fleet):
-    return tuple(lease for lease in helper.plain_leases(fleet) if lease[1] > 0)
-
-
 def edits_by_machines(fleet, plan, pins):
     """The dict from the edits that can be done to the machine that is spare in all their stretches."""
     rows = helper.plain_courses(fleet, plan)
     told = {}
-    for lease in later_leases(fleet):
+    for lease in helper.later_leases(fleet):
         spares = {rows[stretch][1] for stretch in helper.plain_stretches(fleet, lease)}
         if lease not in pins and len(spares) == 1:
             told[lease] = min(spares)
@@ -56,7 +52,7 @@ class Edits(unittest.TestCase):
         chosen = random.Random(25)
         for fleet in SMALL_FLEETS:
             for plan in helper.plain_plans(fleet):
-                for pins in ((), helper.drawn_part(chosen, later_leases(fleet)), later_leases(fleet)):
+                for pins in ((), helper.drawn_part(chosen, helper.later_leases(fleet)), helper.later_leases(fleet)):
                     self.check_edits(fleet, plan, pins)
 
     def check_edits(self, fleet, plan, pins):
@@ -75,7 +71,7 @@ class Edits(unittest.TestCase):
         for fleet in (*SMALL_FLEETS, *LARGE_FLEETS):
             for _ in range(10):
                 plan = helper.drawn_part(chosen, range(len(fleet[2])))
-                pins = helper.drawn_part(chosen, later_leases(fleet))
+                pins = helper.drawn_part(chosen, helper.later_leases(fleet))
                 table, spares = helper.plain_table(fleet, plan), edits_by_machines(fleet, plan, pins)
                 check(self, tuple(spares), edits_of, fleet, plan, pins)
                 for lease, spare in spares.items():
@@ -86,7 +82,7 @@ class Edits(unittest.TestCase):
     def test_no_hops_and_all_hops(self):
         for fleet in (*SMALL_FLEETS, *LARGE_FLEETS):
             every = tuple(range(len(fleet[2])))
-            check(self, later_leases(fleet), edits_of, fleet, (), ())
+            check(self, helper.later_leases(fleet), edits_of, fleet, (), ())
             check(self, tuple(edits_by_machines(fleet, every, ())), edits_of, fleet, every, ())
 
     def test_one_service(self):
@@ -102,7 +98,7 @@ class Edits(unittest.TestCase):
             check(self, ((),), traced, fleet, (), (), ())
             check_raised(self, NoEdit(0), edited, fleet, (), (), (fleet[0][0], 0))
         for fleet in (*SMALL_FLEETS, *LARGE_FLEETS):
-            check(self, (), edits_of, fleet, (), later_leases(fleet))
+            check(self, (), edits_of, fleet, (), helper.later_leases(fleet))
 
     def test_a_hop_in_the_last_stretch_before_the_end_bars(self):
         fleet = (("a", "b"), (0, 1), ("a", "b", "a", "b"))
@@ -157,7 +153,7 @@ class Scripts(unittest.TestCase):
         for fleet in SMALL_FLEETS:
             for _ in range(6):
                 plan = helper.drawn_part(chosen, range(len(fleet[2])))
-                pins = helper.drawn_part(chosen, later_leases(fleet))
+                pins = helper.drawn_part(chosen, helper.later_leases(fleet))
                 script = drawn_script(chosen, fleet, plan, pins, 6)
                 self.check_script(fleet, plan, pins, script)
                 at = chosen.randint(0, len(script))
@@ -170,7 +166,7 @@ class Scripts(unittest.TestCase):
     def test_scripts_of_two_thousand_edits(self):
         chosen = random.Random(28)
         for fleet in LARGE_FLEETS[:2]:
-            pins = later_leases(fleet)[::5]
+            pins = helper.later_leases(fleet)[::5]
             plan = helper.drawn_part(chosen, range(len(fleet[2])))
             script = drawn_script(chosen, fleet, plan, pins, 2000)
             plans = called(self, traced, fleet, plan, pins, script)
@@ -191,9 +187,9 @@ class Scripts(unittest.TestCase):
     def test_empty_scripts(self):
         for fleet in (*SMALL_FLEETS, *LARGE_FLEETS):
             plan = tuple(range(len(fleet[2])))
-            check(self, plan, run, fleet, plan, later_leases(fleet), ())
-            check(self, (plan,), traced, fleet, plan, later_leases(fleet), ())
-            check(self, True, is_script, fleet, plan, later_leases(fleet), ())
+            check(self, plan, run, fleet, plan, helper.later_leases(fleet), ())
+            check(self, (plan,), traced, fleet, plan, helper.later_leases(fleet), ())
+            check(self, True, is_script, fleet, plan, helper.later_leases(fleet), ())
         check(self, (), takes_back, ())
 
     def test_values_that_are_no_scripts(self):

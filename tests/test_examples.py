@@ -31,6 +31,12 @@ class Examples(unittest.TestCase):
     def test_edits(self):
         self.check_examples("edits")
 
+    def test_differences(self):
+        self.check_examples("differences")
+
+    def test_leading(self):
+        self.check_examples("leading")
+
 
 if __name__ == "__main__":
     unittest.main()

@@ -14,29 +14,7 @@ FLEETS = (*helper.FLEETS, *helper.drawn_fleets(30, 8, 60, 6))
 WORDS = ("service", "restarts", "hop", "pin", "a", "b", "c", "0", "1", "2", "3", "00", "01", "A", "#", "a#", "-1")
 
 
-def drawn_pins(chosen, fleet):
-    return helper.drawn_part(chosen, [lease for lease in helper.plain_leases(fleet) if lease[1] > 0])
-
-
-def written_otherwise(chosen, text, ordered):
-    """A text that tells the same: with blanks, remarks, empty lines, and lines in another order."""
-    lines = text.split("\n")
-    if not ordered:
-        chosen.shuffle(lines)
-    written = []
-    for line in lines:
-        words = re.sub(" ", lambda _: " " * chosen.randint(1, 3), line)
-        remark = chosen.choice(["", "#", " # hop 0", "# service", "##"])
-        written += [""] * chosen.randint(0, 1) + chosen.choice([[], ["#pin a 1"], ["   "]])
-        written.append(" " * chosen.randint(0, 2) + words + " " * chosen.randint(0, 2) + remark)
-    return "\n".join(written) + chosen.choice(["", "\n", "\n\n # end"])
-
-
 # --- what a text is at fault in, by the list of the document ------------------------------------------
-
-def plain_lines(text):
-    return [re.findall("[^ ]+", re.sub("#.*", "", line)) for line in text.split("\n")]
-
 
 def is_number(word, most):
     return re.fullmatch("0|[1-9][0-9]*", word) is not None and int(word) <= most
@@ -114,18 +92,19 @@ class Written(unittest.TestCase):
         chosen = random.Random(7)
         for fleet in FLEETS:
             check(self, fleet, read_fleet, fleet_text(fleet))
-            check(self, fleet, read_fleet, written_otherwise(chosen, fleet_text(fleet), True))
-            check(self, fleet, read_fleet, written_otherwise(chosen, fleet_text(fleet), False))
+            check(self, fleet, read_fleet, helper.written_otherwise(chosen, fleet_text(fleet), True))
+            check(self, fleet, read_fleet, helper.written_otherwise(chosen, fleet_text(fleet), False))
             for _ in range(3):
-                plan, pins = helper.drawn_part(chosen, range(len(fleet[2]))), drawn_pins(chosen, fleet)
+                plan = helper.drawn_part(chosen, range(len(fleet[2])))
+                pins = helper.drawn_part(chosen, helper.later_leases(fleet))
                 check(self, plan, read_plan, fleet, plan_text(fleet, plan))
-                check(self, plan, read_plan, fleet, written_otherwise(chosen, plan_text(fleet, plan), False))
+                check(self, plan, read_plan, fleet, helper.written_otherwise(chosen, plan_text(fleet, plan), False))
                 check(self, pins, read_pins, fleet, pins_text(fleet, pins))
-                check(self, pins, read_pins, fleet, written_otherwise(chosen, pins_text(fleet, pins), False))
+                check(self, pins, read_pins, fleet, helper.written_otherwise(chosen, pins_text(fleet, pins), False))
 
     def test_all_hops_and_all_pins(self):
         every = tuple(range(60))
-        later = tuple(lease for lease in helper.plain_leases(helper.LARGE) if lease[1] > 0)
+        later = helper.later_leases(helper.LARGE)
         check(self, every, read_plan, helper.LARGE, plan_text(helper.LARGE, every))
         check(self, later, read_pins, helper.LARGE, pins_text(helper.LARGE, later))
 
@@ -204,16 +183,8 @@ class Faults(unittest.TestCase):
 
     def check_drawn(self, chosen, right, faults, function, *fleet):
         """Some words, blanks and lines of a right text are exchanged, again and again."""
-        for _ in range(400):
-            lines = [re.split(" ", line) for line in right.split("\n")]
-            for _ in range(chosen.randint(0, 3)):
-                words = chosen.choice(lines)
-                at = chosen.randint(0, len(words))
-                words[at:at + chosen.randint(0, 1)] = chosen.sample(WORDS, chosen.randint(0, 1))
-                if chosen.random() < 0.2:
-                    lines.insert(chosen.randint(0, len(lines)), list(chosen.choice(lines)))
-            text = "\n".join(" ".join(words) for words in lines)
-            found = list(faults(*fleet, plain_lines(text)))
+        for text in helper.drawn_texts(chosen, right, WORDS):
+            found = list(faults(*fleet, helper.plain_lines(text)))
             if found:
                 check_raised(self, NoText(*min(found)), function, *fleet, text)
             else:
@@ -222,7 +193,7 @@ class Faults(unittest.TestCase):
     def test_drawn_texts(self):
         chosen = random.Random(8)
         for fleet in (SMALL, helper.ALONE, helper.STILL, helper.SOME):
-            every, later = range(len(fleet[2])), [x for x in helper.plain_leases(fleet) if x[1] > 0]
+            every, later = range(len(fleet[2])), helper.later_leases(fleet)
             self.check_drawn(chosen, fleet_text(fleet), fleet_faults, read_fleet)
             self.check_drawn(chosen, plan_text(fleet, every), plan_faults, read_plan, fleet)
             self.check_drawn(chosen, pins_text(fleet, later), pins_faults, read_pins, fleet)
@@ -241,9 +212,9 @@ class Faults(unittest.TestCase):
     def test_strings_of_every_kind(self):
         for thing in helper.every_kind():
             if isinstance(thing, str):
-                check_raised(self, NoText(*min(fleet_faults(plain_lines(thing)))), read_fleet, thing)
+                check_raised(self, NoText(*min(fleet_faults(helper.plain_lines(thing)))), read_fleet, thing)
                 for function, faults in ((read_plan, plan_faults), (read_pins, pins_faults)):
-                    found = list(faults(SMALL, plain_lines(thing)))
+                    found = list(faults(SMALL, helper.plain_lines(thing)))
                     if found:
                         check_raised(self, NoText(*min(found)), function, SMALL, thing)
                     else:

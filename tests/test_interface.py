@@ -31,6 +31,16 @@ INTERFACE = {
     "edits": "can_be_edited(fleet,plan,pins,lease) is_script(fleet,plan,pins,thing) edits_of(fleet,plan,pins) "
              "traced(fleet,plan,pins,script) takes_back(script) edited(fleet,plan,pins,lease) "
              "run(fleet,plan,pins,script)",
+    "scripttexts": "script_text(script) told(fleet,plan,pins,script) read_script(fleet,text)",
+    "apart": "apart(fleet,one,other,lease) distance(fleet,one,other) aparts(fleet,one,other)",
+    "differences": "differences(fleet,one,other) is_difference(fleet,one,other,thing) "
+                   "with_differences(fleet,plan,lot)",
+    "precedence": "directly_precedes(fleet,one,other,first,second) precedes(fleet,one,other,first,second) "
+                  "are_closed(fleet,one,other,thing) preceding(fleet,one,other) free_differences(fleet,one,other) "
+                  "closed_with(fleet,one,other,lot) opened_with(fleet,one,other,lot)",
+    "leading": "leads(fleet,pins,one,other) is_shortest(fleet,pins,one,other,thing) barring(fleet,pins,one,other) "
+               "class_of(fleet,pins,plan) script_to(fleet,pins,one,other) shortened(fleet,pins,plan,script) "
+               "fewest_edits(fleet,pins,one,other)",
 }
 
 

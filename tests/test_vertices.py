@@ -12,16 +12,10 @@ SMALL_FLEETS = (helper.SMALL, helper.ALONE, helper.STILL, helper.SOME, *helper.d
 LARGE_FLEETS = (helper.LARGE, *helper.drawn_fleets(8, 8, 60, 19))
 
 
-def plain_vertices(fleet, plan):
-    """The vertices of a plan by their definition."""
-    hops = [[fleet[2][j] for j in plan if j < k] for k in range(len(fleet[2]) + 1)]
-    return tuple(helper.plain_reduced(services) for services in hops)
-
-
 class Vertices(unittest.TestCase):
 
     def check_plan(self, fleet, plan):
-        expected = plain_vertices(fleet, plan)
+        expected = helper.plain_vertices(fleet, plan)
         check(self, expected, vertices_of, fleet, plan)
         check(self, plan, plan_by, fleet, expected)
         rows = helper.plain_courses(fleet, plan)
@@ -46,7 +40,7 @@ class Vertices(unittest.TestCase):
     def test_rows_of_vertices_belong_to_plans_and_no_others_do(self):
         fleets = (helper.SMALL, helper.ALONE, (("a",), (0,), ("a", "a", "a")), (("a", "b", "c"), (0, 1, 2), ("c", "c")))
         for fleet in fleets:
-            right = {plain_vertices(fleet, plan): plan for plan in helper.plain_plans(fleet)}
+            right = {helper.plain_vertices(fleet, plan): plan for plan in helper.plain_plans(fleet)}
             self.assertEqual(len(right), 2 ** len(fleet[2]))
             words = helper.reduced_words(fleet[0], min(3, len(fleet[2]) + 1))
             for row in itertools.product(words, repeat=len(fleet[2]) + 1):
@@ -55,7 +49,7 @@ class Vertices(unittest.TestCase):
     def test_parts_otherwise_and_values_of_every_kind(self):
         chosen = random.Random(21)
         for fleet in (helper.SMALL, helper.ALONE, helper.SOME):
-            right = {repr(plain_vertices(fleet, plan)): plan for plan in helper.plain_plans(fleet)}
+            right = {repr(helper.plain_vertices(fleet, plan)): plan for plan in helper.plain_plans(fleet)}
             things = helper.every_kind()
             for plan in helper.plain_plans(fleet):
                 vertices = vertices_of(fleet, plan)
