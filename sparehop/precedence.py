@@ -2,7 +2,6 @@
 
 from sparehop.differences import differences, differences_in, is_difference
 from sparehop.fleets import share, size
-from sparehop.forms import is_ascending
 
 
 def directly_precedes(fleet, one, other, first, second):
@@ -113,9 +112,7 @@ def free_differences(fleet, one, other):
 
 def are_closed(fleet, one, other, thing):
     """Tell whether a value is the ascending tuple of a CLOSED set of DIFFERENCES."""
-    if not isinstance(thing, tuple):
-        return False
-    if not all([is_difference(fleet, one, other, part) for part in thing]) or not is_ascending(thing):
+    if not isinstance(thing, tuple) or not all([is_difference(fleet, one, other, part) for part in thing]):
         return False
     return closed_with(fleet, one, other, thing) == thing
 

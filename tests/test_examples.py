@@ -1,10 +1,14 @@
-"""The examples that the document gives, with its answers."""
+"""The examples that the document gives, with its answers; and those of README.md."""
 
+import contextlib
 import doctest
+import io
 import pathlib
+import re
 import unittest
 
 FOLDER = pathlib.Path(__file__).parent / "examples"
+README = FOLDER.parent.parent / "README.md"
 
 
 class Examples(unittest.TestCase):
@@ -36,6 +40,19 @@ class Examples(unittest.TestCase):
 
     def test_leading(self):
         self.check_examples("leading")
+
+    def test_between(self):
+        self.check_examples("between")
+
+    def test_readme(self):
+        blocks = re.findall("```([a-z]*)\n(.*?)```", README.read_text(), re.DOTALL)
+        code = "".join(text for kind, text in blocks if kind == "python")
+        answers = [text for kind, text in blocks if not kind and "unittest" not in text and ".ci/run" not in text]
+        printed = io.StringIO()
+        with contextlib.redirect_stdout(printed):
+            exec(code, {})
+        self.assertEqual(printed.getvalue(), "".join(answers))
+        self.assertGreater(len(answers), 1)
 
 
 if __name__ == "__main__":

@@ -41,6 +41,15 @@ INTERFACE = {
     "leading": "leads(fleet,pins,one,other) is_shortest(fleet,pins,one,other,thing) barring(fleet,pins,one,other) "
                "class_of(fleet,pins,plan) script_to(fleet,pins,one,other) shortened(fleet,pins,plan,script) "
                "fewest_edits(fleet,pins,one,other)",
+    "prices": "price_of(prices,script) least_price(fleet,prices,one,other) edits_by_lease(script) "
+              "is_cheapest_script(fleet,pins,prices,one,other,thing)",
+    "between": "is_between(fleet,one,other,thing) plans_between(fleet,one,other) closed_of(fleet,one,other,plan) "
+               "plan_of_closed(fleet,one,other,lot) scripts_many(fleet,one,other) "
+               "number_of_script(fleet,one,other,script) script_at(fleet,one,other,number)",
+    "medians": "median(fleet,one,other,third) nearest_with(fleet,one,other,leases) "
+               "is_median(fleet,one,other,third,thing)",
+    "rounds": "rounds_to(fleet,pins,one,other) longest_row(fleet,one,other) are_rounds(fleet,pins,one,other,thing) "
+              "is_row(fleet,one,other,thing) fewest_rounds(fleet,one,other)",
 }
 
 
