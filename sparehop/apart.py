@@ -2,15 +2,13 @@
 
 from sparehop.fleets import leases_of
 from sparehop.vertices import vertex_in
-from sparehop.words import inverse, joined
+from sparehop.words import walk
 
 
 def apart(fleet, one, other, lease):
     """Return APART of two PLANS for a LEASE."""
     service, begin = lease
-    # From the one VERTEX back to the root and on to the other one: what does not cancel out is the WAY.
-    steps = joined(inverse(vertex_in(fleet, one, begin)), vertex_in(fleet, other, begin))
-    return steps.count(service)
+    return walk(vertex_in(fleet, one, begin), vertex_in(fleet, other, begin)).count(service)
 
 
 def aparts(fleet, one, other):

@@ -47,6 +47,12 @@ def way(one, other):
     return tuple(back + on)
 
 
+def walk(one, other):
+    """Return the services of the EDGES of the WAY from one REDUCED WORD to another, in order."""
+    # Back to the root and on to the other one: what does not cancel out is the WAY.
+    return joined(inverse(one), other)
+
+
 def tree_distance(one, other):
     """Return the number of the EDGES of the WAY from one REDUCED WORD to another."""
     return len(one) + len(other) - 2 * common_length(one, other)

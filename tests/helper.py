@@ -128,6 +128,22 @@ def drawn_part(chosen, items):
     return tuple(item for item in items if chosen.random() < share)
 
 
+def drawn_prices(chosen, fleet, most=9):
+    """Prices with their keys in any order, some of them 0."""
+    leases = plain_leases(fleet)
+    chosen.shuffle(leases)
+    return {lease: chosen.choice((0, chosen.randint(0, most))) for lease in leases}
+
+
+def drawn_pins(chosen, fleet):
+    return drawn_part(chosen, later_leases(fleet))
+
+
+def drawn_word(chosen, fleet, length):
+    """A reduced word of services with at most so many items."""
+    return plain_reduced(chosen.choice(fleet[0]) for _ in range(chosen.randint(0, length)))
+
+
 def no_leases():
     """Couples of a fleet and a value that is no lease of it."""
     for fleet in (SMALL, ALONE, SOME):
@@ -451,6 +467,45 @@ def plain_closed_sets(fleet, one, other):
     return [part for part in parts if all(before[item] <= set(part) for item in part)]
 
 
+def every_wish(fleet):
+    """All wishes for a fleet."""
+    services, _, restarts = fleet
+    machines, stretches = range(len(services) + 1), range(len(restarts) + 1)
+    wishes = [(word, *told) for word in ("on", "off") for told in itertools.product(services, stretches, machines)]
+    wishes += [("spare", machine, first, last) for machine in machines for first in stretches
+               for last in stretches[first:]]
+    return wishes + [("stay", number) for number in range(len(restarts))]
+
+
+def drawn_wishes(chosen, fleet, most):
+    """At most so many wishes for a fleet, more of those that something stays away than of others."""
+    every = every_wish(fleet)
+    away = [wish for wish in every if wish[0] in ("off", "stay")]
+    return tuple(chosen.choice(chosen.choice((every, away))) for _ in range(chosen.randint(0, most)))
+
+
+def plain_granted(fleet, plan, wish):
+    """Whether a plan grants a wish, by the machines in its stretches."""
+    rows = plain_courses(fleet, plan)
+    if wish[0] == "stay":
+        return wish[1] not in plan
+    if wish[0] == "spare":
+        return {rows[k][1] for k in range(wish[2], wish[3] + 1)} == {wish[1]}
+    return (rows[wish[2]][0][wish[1]] == wish[3]) is (wish[0] == "on")
+
+
+def plain_suits(fleet, wishes, stretch, word):
+    """Whether a point suits wishes, by the machines behind the steps of its word."""
+    machines = dict(zip(fleet[0], fleet[1]))
+    for service in word:
+        (machines[service],) = set(range(len(machines) + 1)) - set(machines.values())
+    (spare,) = set(range(len(machines) + 1)) - set(machines.values())
+    on = [machines[wish[1]] == wish[3] for wish in wishes if wish[0] == "on" and wish[2] == stretch]
+    off = [machines[wish[1]] != wish[3] for wish in wishes if wish[0] == "off" and wish[2] == stretch]
+    free = [spare == wish[1] for wish in wishes if wish[0] == "spare" and stretch in range(wish[2], wish[3] + 1)]
+    return all(on + off + free)
+
+
 def later_leases(fleet):
     """All leases that may be pinned."""
     return tuple(lease for lease in plain_leases(fleet) if lease[1] > 0)
@@ -462,6 +517,30 @@ def pairs_of_plans(fleet, many, seed):
     every = tuple(range(len(fleet[2])))
     marked = [((), ()), ((), every), (every, ()), (every, every)]
     return pairs if len(pairs) <= many else marked + random.Random(seed).sample(pairs, many - 4)
+
+
+def pinned_ahead(fleet, many):
+    """The fleet with so many restarts of one service more ahead of all others, and its pins, which pin all of them."""
+    services, places, restarts = fleet
+    names = (*services, "zz")
+    later = tuple(("zz", number + 1) for number in range(many))
+    return (names, (*places, len(services) + 1), ("zz",) * many + restarts), later
+
+
+def letters(text):
+    """The fleet whose services are letters, which restart in this order."""
+    names = tuple(sorted(set(text)))
+    return names, tuple(range(len(names))), tuple(text)
+
+
+# Fleets with just 3,999 and 4,001 points that are met with no pins; so many are always odd: but for the first
+# one, each word has its neighbour over the last edge. A pinned restart ahead of all others adds one point.
+FEWER_POINTS = letters("acffabbbfdaddebe")
+MORE_POINTS = letters("aecbedbdefaaa")
+JUST_ENOUGH = pinned_ahead(FEWER_POINTS, 1)
+ONE_TOO_MANY = pinned_ahead(FEWER_POINTS, 2)
+# One service: 121 points, and 2 ** 60 plans.
+LONGEST = letters("a" * 60)
 
 
 # Plans that are many hundred differences apart: fleets with two, three and eight services and sixty restarts.

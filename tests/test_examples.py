@@ -44,6 +44,15 @@ class Examples(unittest.TestCase):
     def test_between(self):
         self.check_examples("between")
 
+    def test_merges(self):
+        self.check_examples("merges")
+
+    def test_classes(self):
+        self.check_examples("classes")
+
+    def test_heights(self):
+        self.check_examples("heights")
+
     def test_readme(self):
         blocks = re.findall("```([a-z]*)\n(.*?)```", README.read_text(), re.DOTALL)
         code = "".join(text for kind, text in blocks if kind == "python")

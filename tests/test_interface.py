@@ -50,6 +50,19 @@ INTERFACE = {
                "is_median(fleet,one,other,third,thing)",
     "rounds": "rounds_to(fleet,pins,one,other) longest_row(fleet,one,other) are_rounds(fleet,pins,one,other,thing) "
               "is_row(fleet,one,other,thing) fewest_rounds(fleet,one,other)",
+    "merges": "quarrel(fleet,base,first,second) quarrels(fleet,base,one,other) also_taken_back(fleet,base,one,lot) "
+              "merged(fleet,base,one,other) common(fleet,base,one,other) merged_all(fleet,base,plans) "
+              "taken_back(fleet,base,one,lot) rebased(fleet,base,one,other)",
+    "classes": "points(fleet,pins,plan) ways_on(fleet,pins,plan) ways_to(fleet,pins,plan) many_plans(fleet,pins,plan) "
+               "machine_counts(fleet,pins,plan,lease) spare_counts(fleet,pins,plan,stretch) "
+               "hop_counts(fleet,pins,plan) frozen(fleet,pins,plan)",
+    "numbering": "plan_at(fleet,pins,plan,number) number_of(fleet,pins,plan,other) "
+                 "number_below(fleet,pins,plan,other) all_plans(fleet,pins,plan,most)",
+    "wishes": "are_wishes(fleet,thing) is_granted(fleet,plan,wish) suits(fleet,wishes,stretch,word) "
+              "may_hop(wishes,number) missed(fleet,plan,wishes)",
+    "heights": "toll(fleet,plan,prices,stretch,word) heights(fleet,pins,plan,wishes,prices) "
+               "is_heights(fleet,pins,plan,wishes,prices,thing) cheapest(fleet,pins,plan,wishes,prices) "
+               "lowest_price(fleet,pins,plan,wishes,prices) fewest_opened(fleet,pins,plan,wishes)",
 }
 
 

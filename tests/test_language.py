@@ -14,7 +14,7 @@ BUILTINS = set(
     "any all divmod pow ValueError KeyError IndexError LookupError".split())
 # What doctest adds for a while is none of Python's own names.
 ALL_BUILTINS = set(dir(builtins)) - {"_"}
-METHODS = set("append count extend get index items join partition pop split values".split())
+METHODS = set("append count extend get index items join partition pop setdefault split values".split())
 BARRED = "type|typing|enum|Enum|namedtuple|Protocol|Generic|register|mro|elements|open|input|law"
 NODES_OUT = (
     ast.Import, ast.Global, ast.AsyncFunctionDef, ast.GeneratorExp, ast.Yield, ast.YieldFrom, ast.Lambda, ast.Div,

@@ -23,10 +23,6 @@ SIXTY_NINE = (("a", "b", "c"), tuple("babcabacbac"), (("a", 10), ("b", 9), ("c",
 TWENTY_NINE = (("d", "e", "f", "g"), tuple("fdegegdfg"), (("g", 9),), (3, 5, 8))
 
 
-def drawn_pins(chosen, fleet):
-    return helper.drawn_part(chosen, helper.later_leases(fleet))
-
-
 def one_behind_the_other(parts):
     """The fleet in which the parts follow one another, with its pins, its plan, and all plans of its class."""
     services = sorted(name for names, _, _, _ in parts for name in names)
@@ -50,7 +46,7 @@ class Leading(unittest.TestCase):
         for fleet in SMALL_FLEETS:
             plans = helper.plain_plans(fleet)
             for one in plans[::2]:
-                pins = drawn_pins(chosen, fleet)
+                pins = helper.drawn_pins(chosen, fleet)
                 needed = helper.plain_needed(fleet, pins, one)
                 check(self, tuple(sorted(needed)), class_of, fleet, pins, one)
                 for other in plans[::3]:
@@ -133,7 +129,7 @@ class Leading(unittest.TestCase):
         chosen = random.Random(67)
         for fleet in SMALL_FLEETS:
             for plan in helper.plain_plans(fleet)[::3]:
-                pins, script, now = drawn_pins(chosen, fleet), [], plan
+                pins, script, now = helper.drawn_pins(chosen, fleet), [], plan
                 for _ in range(chosen.randint(0, 12)):
                     edits = {x: y for x, y in helper.plain_graph(fleet)[now].items() if x not in pins}
                     if edits:

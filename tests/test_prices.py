@@ -11,13 +11,6 @@ from sparehop.prices import edits_by_lease, is_cheapest_script, least_price, pri
 SMALL_FLEETS = (helper.SMALL, helper.ALONE, helper.STILL, helper.SOME, *helper.drawn_fleets(8, 4, 5, 70))
 
 
-def drawn_prices(chosen, fleet, most=9):
-    """Prices with their keys in any order, some of them 0."""
-    leases = helper.plain_leases(fleet)
-    chosen.shuffle(leases)
-    return {lease: chosen.choice((0, chosen.randint(0, most))) for lease in leases}
-
-
 def plain_cheapest(fleet, pins, prices, one):
     """The dict from the plans of a class to the least price of a script to them, by going along edits."""
     least, waiting = {one: 0}, [one]
@@ -38,7 +31,7 @@ class Prices(unittest.TestCase):
         for fleet in SMALL_FLEETS:
             for one in helper.plain_plans(fleet)[::3]:
                 pins = helper.drawn_part(chosen, helper.later_leases(fleet))
-                for prices in (drawn_prices(chosen, fleet), drawn_prices(chosen, fleet, 10 ** 6),
+                for prices in (helper.drawn_prices(chosen, fleet), helper.drawn_prices(chosen, fleet, 10 ** 6),
                                dict.fromkeys(helper.plain_leases(fleet), 0)):
                     for other, price in plain_cheapest(fleet, pins, prices, one).items():
                         check(self, price, least_price, fleet, prices, one, other)
@@ -63,7 +56,7 @@ class Prices(unittest.TestCase):
     def test_equal_plans_and_empty_scripts(self):
         chosen = random.Random(72)
         for fleet in (*SMALL_FLEETS, helper.LARGE):
-            prices = drawn_prices(chosen, fleet)
+            prices = helper.drawn_prices(chosen, fleet)
             for plan in ((), tuple(range(len(fleet[2])))):
                 check(self, 0, least_price, fleet, prices, plan, plan)
                 check(self, True, is_cheapest_script, fleet, helper.later_leases(fleet), prices, plan, plan, ())
@@ -97,7 +90,7 @@ class Prices(unittest.TestCase):
                 rows += [(*script, lease) for script in rows for lease in helper.plain_leases(fleet)]
             rows = sorted(set(rows))
             for one in helper.plain_plans(fleet)[::3]:
-                prices = drawn_prices(chosen, fleet, 2)
+                prices = helper.drawn_prices(chosen, fleet, 2)
                 least = plain_cheapest(fleet, (), prices, one)
                 for script in rows:
                     behind = helper.plain_behind(fleet, one, pins, script)
@@ -109,7 +102,7 @@ class Prices(unittest.TestCase):
     def test_values_that_are_no_scripts(self):
         chosen = random.Random(74)
         script = (("a", 1), ("a", 3), ("b", 2))
-        for prices in (dict.fromkeys(helper.plain_leases(helper.SMALL), 0), drawn_prices(chosen, helper.SMALL)):
+        for prices in (dict.fromkeys(helper.plain_leases(helper.SMALL), 0), helper.drawn_prices(chosen, helper.SMALL)):
             things = [*helper.every_kind(), script[::-1], script * 2, list(script), (0, 1)]
             things += helper.otherwise(script)
             things += helper.twice_otherwise(script, 100, chosen.random())
@@ -129,7 +122,7 @@ class Prices(unittest.TestCase):
     def test_far_apart(self):
         chosen = random.Random(75)
         for fleet, one, other in helper.FAR:
-            prices = drawn_prices(chosen, fleet, 10 ** 6)
+            prices = helper.drawn_prices(chosen, fleet, 10 ** 6)
             script = script_to(fleet, (), one, other)
             least = helper.quick(self, least_price, fleet, prices, one, other)
             self.assertEqual(helper.quick(self, price_of, prices, script), least)
