@@ -61,8 +61,8 @@ def number_below(fleet, pins, plan, other):
         if ends_there(on, start, word):
             below += 1
         hops = next_hops(fleet, on, start, word)
-        below = below + sum([many for hop, _, many in hops if hop < number])
-        words = [behind for hop, behind, _ in hops if hop == number]
+        below = below + sum([many for hop, behind, many in hops if hop < number])
+        words = [behind for hop, behind, many in hops if hop == number]
         if not words:
             break
         start, word = number + 1, words[0]

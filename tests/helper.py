@@ -8,7 +8,9 @@ import random
 import re
 import time
 
-from sparehop.errors import FleetError, NoEdit, NoText
+from sparehop.desk import Desk
+from sparehop.errors import FleetError, NoEdit, NoGrant, NoLease, NoMerge, NoNumber, NoText, NoWay, Nothing
+from sparehop.house import House
 
 SMALL = (("a", "b"), (0, 1), ("a", "b", "a"))
 ALONE = (("a",), (1,), ())
@@ -43,6 +45,8 @@ def every_kind():
         {"a": 0}, {("a", 0): 0}, {("a", False): 0}, {0: ("a", 0)}, {True: True}, {(): {}},
         nested(list, 20), nested(tuple, 20), deep,
         [0] * 3000, (0,) * 3000, ("a",) * 3000, tuple(range(3000)), {k: k for k in range(3000)},
+        House(SMALL, (0,), ()), (House(SMALL, (), ()),), [House(ALONE, (), ())], {"a": House(SMALL, (), ())},
+        (House(SMALL, (), ()), 0), ("a", House(SMALL, (), ())), Desk("service a 0", ""), (Desk("service a 0", ""),),
         FleetError(), NoEdit(0), NoText(0, 1), [NoEdit(0)], (NoEdit(0),), {NoEdit(0): NoEdit(0)}, (NoEdit(0), 0),
     ]
 
@@ -246,7 +250,7 @@ def observed(test, function, arguments):
         test.assertTrue(same(told, kept) and same(told, again), (function, before, told, again))
         test.assertEqual(order_of_keys(told), order_of_keys(again))
     else:
-        test.assertEqual(repr(kept), repr(vars(again)))
+        test.assertTrue(same(kept, vars(again)), (function, before))
     return kind, told
 
 
@@ -506,6 +510,28 @@ def plain_suits(fleet, wishes, stretch, word):
     return all(on + off + free)
 
 
+def plain_quarrel(fleet, base, first, second):
+    """Whether two differences quarrel, by the definition, in each stretch that their leases share."""
+    (lease, edge), (other_lease, other_edge) = first, second
+    shared = set(plain_stretches(fleet, lease)) & set(plain_stretches(fleet, other_lease))
+    answers = set()
+    for k in shared:
+        vertex = plain_vertices(fleet, base)[k]
+        ways = []
+        for word, service in (edge, other_edge):
+            far = max(word, (*word, service), key=lambda end: len(plain_way(vertex, end)))
+            ways.append(plain_way(vertex, far))
+        answers.add(edge not in ways[1] and other_edge not in ways[0])
+    assert len(answers) <= 1
+    return answers == {True}
+
+
+@functools.lru_cache(maxsize=None)
+def plans_by_lots(fleet, base):
+    """The dict from the sets of differences from base to the plans that have just these."""
+    return {frozenset(plain_differences(fleet, base, plan)): plan for plan in plain_plans(fleet)}
+
+
 def later_leases(fleet):
     """All leases that may be pinned."""
     return tuple(lease for lease in plain_leases(fleet) if lease[1] > 0)
@@ -541,6 +567,110 @@ JUST_ENOUGH = pinned_ahead(FEWER_POINTS, 1)
 ONE_TOO_MANY = pinned_ahead(FEWER_POINTS, 2)
 # One service: 121 points, and 2 ** 60 plans.
 LONGEST = letters("a" * 60)
+
+
+def plain_merged(fleet, base, one, other):
+    """The plan to which two plans of one base merge, and None; or None and the least two differences that quarrel."""
+    firsts, seconds = (plain_differences(fleet, base, plan) for plan in (one, other))
+    both = [(x, y) for x, y in itertools.product(firsts, seconds) if plain_quarrel(fleet, base, x, y)]
+    return plans_by_lots(fleet, base).get(frozenset(firsts) | frozenset(seconds)), min(both, default=None)
+
+
+def plain_price(fleet, prices, one, other):
+    return sum(prices[lease] * many for lease, many in plain_aparts(fleet, one, other).items())
+
+
+class PlainHouse:
+    """The state of a house kept by hand, from the definitions alone; each change raises the error that is due."""
+
+    def __init__(self, fleet, plan, pins):
+        self.fleet, self.plans, self.pins, self.now, self.lines = fleet, [plan], pins, 0, []
+
+    def held(self):
+        return tuple(x for x in later_leases(self.fleet) if x in self.pins or x[1] <= self.now)
+
+    def told(self):
+        """All that a house tells."""
+        machines, spare = plain_courses(self.fleet, self.plans[-1])[self.now]
+        return [self.fleet, self.plans[-1], self.pins, self.now, len(self.plans) - 1, self.held(), machines, spare,
+                self.plans, "".join(line + "\n" for line in self.lines)]
+
+    def become(self, plan):
+        if plan != self.plans[-1]:
+            self.plans.append(plan)
+            self.lines.append("plan" + "".join(f" {hop}" for hop in plan))
+
+    def edit(self, lease):
+        plan = None if lease in self.held() else plain_graph(self.fleet)[self.plans[-1]].get(lease)
+        if plan is None:
+            raise NoEdit(0)
+        self.become(plan)
+
+    def lead(self, plan):
+        barred = [x for x, many in plain_aparts(self.fleet, self.plans[-1], plan).items() if many and x in self.held()]
+        assert bool(barred) is (plan not in plain_needed(self.fleet, self.held(), self.plans[-1]))
+        if barred:
+            raise NoWay(barred[0])
+        self.become(plan)
+
+    def propose(self, version, plan):
+        if version >= len(self.plans):
+            raise NoNumber(len(self.plans))
+        merge, both = plain_merged(self.fleet, self.plans[version], self.plans[-1], plan)
+        if both is not None:
+            raise NoMerge(both)
+        self.lead(merge)
+
+    def take_back(self, version):
+        if version == 0:
+            raise Nothing()
+        self.propose(version, self.plans[min(version, len(self.plans)) - 1])
+
+    def grant(self, wishes, prices):
+        plans = sorted(plain_needed(self.fleet, self.held(), self.plans[-1]))
+        rows = [(plain_price(self.fleet, prices, self.plans[-1], plan), plan) for plan in plans
+                if all(plain_granted(self.fleet, plan, wish) for wish in wishes)]
+        if not rows:
+            raise NoGrant()
+        self.become(min(rows)[1])
+
+    def pin(self, lease):
+        if lease not in self.pins:
+            self.pins = tuple(sorted((*self.pins, lease)))
+            self.lines.append(f"pin {lease[0]} {lease[1]}")
+
+    def unpin(self, lease):
+        if lease not in self.pins:
+            raise NoLease(lease)
+        self.pins = tuple(other for other in self.pins if other != lease)
+        self.lines.append(f"unpin {lease[0]} {lease[1]}")
+
+    def pass_restart(self):
+        if self.now == len(self.fleet[2]):
+            raise Nothing()
+        self.now += 1
+        self.lines.append("pass")
+
+
+def house_told(house):
+    """All that a house tells."""
+    return [house.fleet(), house.plan(), house.pins(), house.now(), house.version(), house.held(), house.machines(),
+            house.spare(), [house.plan_of(version) for version in range(house.version() + 1)], house.log()]
+
+
+def drawn_change(chosen, plain):
+    """The name of a method of a house, and arguments of it, for a house in this state."""
+    fleet, m = plain.fleet, len(plain.fleet[2])
+    later = later_leases(fleet) or (None,)
+    near = [plan for plan in plain_needed(fleet, plain.held(), plain.plans[-1])]
+    plan = chosen.choice(chosen.choice((near, plain_plans(fleet), plain.plans)))
+    version = chosen.randint(0, len(plain.plans)) if chosen.random() < 0.9 else 10 ** 40 - 1
+    rows = [("edit", chosen.choice(plain_leases(fleet))), ("edit", chosen.choice(later)), ("lead", plan),
+            ("propose", version, plan), ("propose", version, chosen.choice(plain.plans)), ("take_back", version),
+            ("grant", drawn_wishes(chosen, fleet, 3), drawn_prices(chosen, fleet)), ("pin", chosen.choice(later)),
+            ("unpin", chosen.choice(plain.pins or later)), ("unpin", chosen.choice(later)), ("pass_restart",)]
+    rows = [row for row in rows if None not in row]
+    return chosen.choice([row for row in rows if row[0] != "pass_restart" or chosen.random() < 3 * m / 40])
 
 
 # Plans that are many hundred differences apart: fleets with two, three and eight services and sixty restarts.

@@ -53,6 +53,12 @@ class Examples(unittest.TestCase):
     def test_heights(self):
         self.check_examples("heights")
 
+    def test_days(self):
+        self.check_examples("days")
+
+    def test_house(self):
+        self.check_examples("house")
+
     def test_readme(self):
         blocks = re.findall("```([a-z]*)\n(.*?)```", README.read_text(), re.DOTALL)
         code = "".join(text for kind, text in blocks if kind == "python")

@@ -63,6 +63,23 @@ INTERFACE = {
     "heights": "toll(fleet,plan,prices,stretch,word) heights(fleet,pins,plan,wishes,prices) "
                "is_heights(fleet,pins,plan,wishes,prices,thing) cheapest(fleet,pins,plan,wishes,prices) "
                "lowest_price(fleet,pins,plan,wishes,prices) fewest_opened(fleet,pins,plan,wishes)",
+    "days": "begun_pins(fleet,pins,now) leads_at(fleet,pins,one,other,now) "
+            "is_timetable(fleet,pins,one,other,now,most,thing) last_stretch(fleet,pins,one,other) "
+            "least_most(fleet,pins,one,other,now) due_stretches(fleet,one,other) "
+            "timetable(fleet,pins,one,other,now,most)",
+    "restarts": "with_restart(fleet,number,service) without_restart(fleet,number) plan_with(plan,number) "
+                "plan_without(plan,number) lease_with(fleet,number,service,lease) lease_without(fleet,number,lease) "
+                "pins_with(fleet,pins,number,service) pins_without(fleet,pins,number)",
+    "house": "House(fleet,plan,pins)",
+    "logs": "whole_lines(text) reopened(fleet,plan,pins,text)",
+    "desk": "Desk(fleet_text,plan_text)",
+}
+
+METHODS = {
+    "house": "fleet() plan() pins() held() now() version() spare() machines() plan_of(version) edit(lease) lead(plan) "
+             "propose(version,plan) take_back(version) grant(wishes,prices) pin(lease) unpin(lease) pass_restart() "
+             "log() twin()",
+    "desk": "execute(line) house()",
 }
 
 
@@ -76,6 +93,15 @@ class Interface(unittest.TestCase):
                 function = getattr(module, name)
                 self.assertEqual(function.__module__, module.__name__)
                 self.assertEqual(list(inspect.signature(function).parameters), arguments.split(","))
+
+    def test_methods(self):
+        for file, kind in (("house", "House"), ("desk", "Desk")):
+            owner = getattr(importlib.import_module(f"sparehop.{file}"), kind)
+            for entry in METHODS[file].split():
+                name, arguments = entry[:-1].split("(")
+                told = list(inspect.signature(vars(owner)[name]).parameters)
+                self.assertEqual(told, ["self", *filter(None, arguments.split(","))])
+        self.assertIn("__eq__", vars(importlib.import_module("sparehop.house").House))
 
     def test_the_files_of_the_package(self):
         files = {path.name for path in FOLDER.iterdir() if path.name != "__pycache__"}

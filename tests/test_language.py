@@ -15,6 +15,8 @@ BUILTINS = set(
 # What doctest adds for a while is none of Python's own names.
 ALL_BUILTINS = set(dir(builtins)) - {"_"}
 METHODS = set("append count extend get index items join partition pop setdefault split values".split())
+OWN_METHODS = {node.name for path in FILES for kind in ast.parse(path.read_text()).body if isinstance(kind, ast.ClassDef)
+               for node in kind.body if isinstance(node, ast.FunctionDef)}
 BARRED = "type|typing|enum|Enum|namedtuple|Protocol|Generic|register|mro|elements|open|input|law"
 NODES_OUT = (
     ast.Import, ast.Global, ast.AsyncFunctionDef, ast.GeneratorExp, ast.Yield, ast.YieldFrom, ast.Lambda, ast.Div,
@@ -44,11 +46,22 @@ class Language(unittest.TestCase):
                     self.assertIn(node.id, BUILTINS, path)
                     self.assertIsInstance(node.ctx, ast.Load, path)
                 if isinstance(node, ast.Call) and isinstance(node.func, ast.Attribute):
-                    self.assertIn(node.func.attr, METHODS, path)
+                    self.assertIn(node.func.attr, METHODS | OWN_METHODS, path)
                 if isinstance(node, ast.Constant):
                     self.assertNotIsInstance(node.value, float)
                 if isinstance(node, ast.ExceptHandler):
-                    self.assertNotIn(node.type.id, ALL_BUILTINS)
+                    kinds = node.type.elts if isinstance(node.type, ast.Tuple) else [node.type]
+                    self.assertFalse({kind.id for kind in kinds} & ALL_BUILTINS)
+                if isinstance(node, ast.Raise):
+                    self.assertIsInstance(node.exc, ast.Call, path)
+
+    def test_methods_and_attributes(self):
+        builtin = {name for kind in (str, int, list, dict, set, bytes, tuple) for name in dir(kind)}
+        self.assertFalse((OWN_METHODS - {"__init__", "__eq__"}) & builtin)
+        assigned = {node.attr for path in FILES for node in ast.walk(ast.parse(path.read_text()))
+                    if isinstance(node, ast.Attribute) and isinstance(node.ctx, ast.Store)}
+        self.assertFalse(assigned & OWN_METHODS)
+        self.assertFalse(assigned & builtin - {"index"})
 
     def test_no_name_means_two_things(self):
         for path in FILES:

@@ -1,6 +1,5 @@
 """[29], [30] and [9] merges: measured by going through all plans of drawn small fleets."""
 
-import functools
 import itertools
 import random
 import time
@@ -22,28 +21,6 @@ from sparehop.merges import (
 SMALL_FLEETS = (helper.SMALL, helper.ALONE, helper.STILL, helper.SOME, *helper.drawn_fleets(10, 4, 5, 100))
 
 
-def plain_quarrel(fleet, base, first, second):
-    """Whether two differences quarrel, by the definition, in each stretch that their leases share."""
-    (lease, edge), (other_lease, other_edge) = first, second
-    shared = set(helper.plain_stretches(fleet, lease)) & set(helper.plain_stretches(fleet, other_lease))
-    answers = set()
-    for k in shared:
-        vertex = helper.plain_vertices(fleet, base)[k]
-        ways = []
-        for word, service in (edge, other_edge):
-            far = max(word, (*word, service), key=lambda end: len(helper.plain_way(vertex, end)))
-            ways.append(helper.plain_way(vertex, far))
-        answers.add(edge not in ways[1] and other_edge not in ways[0])
-    assert len(answers) <= 1
-    return answers == {True}
-
-
-@functools.lru_cache(maxsize=None)
-def plans_by_lots(fleet, base):
-    """The dict from the sets of differences from base to the plans that have just these."""
-    return {frozenset(helper.plain_differences(fleet, base, plan)): plan for plan in helper.plain_plans(fleet)}
-
-
 def triples(fleet, many, seed):
     chosen = random.Random(seed)
     pairs = helper.pairs_of_plans(fleet, many, seed)
@@ -56,9 +33,9 @@ class Merges(unittest.TestCase):
         found = {True: 0, False: 0}
         for seed, fleet in enumerate(SMALL_FLEETS):
             for base, one, other in triples(fleet, 60, seed):
-                lots = plans_by_lots(fleet, base)
+                lots = helper.plans_by_lots(fleet, base)
                 firsts, seconds = (helper.plain_differences(fleet, base, plan) for plan in (one, other))
-                both = [(x, y) for x, y in itertools.product(firsts, seconds) if plain_quarrel(fleet, base, x, y)]
+                both = [(x, y) for x, y in itertools.product(firsts, seconds) if helper.plain_quarrel(fleet, base, x, y)]
                 check(self, tuple(sorted(both)), quarrels, fleet, base, one, other)
                 expected = lots.get(frozenset(firsts) | frozenset(seconds))
                 self.assertEqual(expected is None, bool(both))
@@ -85,7 +62,7 @@ class Merges(unittest.TestCase):
             for base, one, other in triples(fleet, 20, seed):
                 firsts, seconds = differences(fleet, base, one), differences(fleet, base, other)
                 for first, second in itertools.product(firsts[:6], seconds[:6]):
-                    expected = plain_quarrel(fleet, base, first, second)
+                    expected = helper.plain_quarrel(fleet, base, first, second)
                     check(self, expected, quarrel, fleet, base, first, second)
                     check(self, expected, quarrel, fleet, base, second, first)
                 for first in firsts:
@@ -151,7 +128,7 @@ class Merges(unittest.TestCase):
                     check_raised(self, NoMerge(quarrels(fleet, base, one, other)[0]), merged_all, fleet, base, told)
                 else:
                     lot = frozenset(item for plan in told for item in differences(fleet, base, plan))
-                    check(self, plans_by_lots(fleet, base)[lot], merged_all, fleet, base, told)
+                    check(self, helper.plans_by_lots(fleet, base)[lot], merged_all, fleet, base, told)
         self.assertGreater(min(found.values()), 100)
 
     def test_the_first_two_that_quarrel_are_told_by_the_least_indexes(self):
@@ -251,7 +228,7 @@ class TakenBack(unittest.TestCase):
         for seed, fleet in enumerate(SMALL_FLEETS):
             for base, one in helper.pairs_of_plans(fleet, 40, seed):
                 before = helper.plain_preceding(fleet, base, one)
-                lots = plans_by_lots(fleet, base)
+                lots = helper.plans_by_lots(fleet, base)
                 for lot in {(), tuple(before), helper.drawn_part(chosen, before), tuple(before)[:1], tuple(before)[-1:]}:
                     gone = {item for item in before if item in lot or before[item] & set(lot)}
                     plan = lots[frozenset(before) - frozenset(gone)]
