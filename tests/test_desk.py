@@ -233,7 +233,7 @@ class Desks(unittest.TestCase):
         chosen = random.Random(202)
         for fleet in SMALL_FLEETS:
             ones = dict.fromkeys(helper.plain_leases(fleet), 1)
-            for wish in chosen.sample(helper.every_wish(fleet), 8):
+            for wish in [chosen.choice(helper.every_wish(fleet)) for _ in range(8)]:
                 desk, plain = Desk(fleet_text(fleet), ""), helper.PlainHouse(fleet, (), ())
                 helper.outcome(plain.grant, [(wish,), ones])
                 desk.execute("grant " + " ".join(map(str, wish)))
